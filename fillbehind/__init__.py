@@ -1,0 +1,1 @@
+"""Fillbehind: filling a new column of a table while others write."""
