@@ -20,12 +20,9 @@ def is_word(value, words):
 
 def are_words(values, words):
     """Tell whether the values are different words of a tuple, in its order."""
-    left = words
-    for value in values:
-        if not is_word(value, left):
-            return False
-        left = left[left.index(value) + 1:]
-    return True
+    if not all([is_word(value, words) for value in values]):
+        return False
+    return list(values) == [word for word in words if word in values]
 
 
 def is_sequence(value):
@@ -51,8 +48,10 @@ def are_names(value):
 
 
 def is_plain(value):
-    """Tell whether a value is a tuple of strings and integers alone.
+    """Tell whether a value is a tuple of strings, integers and None alone.
 
     Such a tuple can be compared: without this, True would pass for 1.
     """
-    return isinstance(value, tuple) and all([isinstance(item, str) or is_integer(item) for item in value])
+    if not isinstance(value, tuple):
+        return False
+    return all([item is None or isinstance(item, str) or is_integer(item) for item in value])

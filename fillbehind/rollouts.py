@@ -218,6 +218,20 @@ class Rollout:
         return is_plain(x) and x in options_where(self, True)
 
 
+def writer_at(rollout, name):
+    """The index of the writer with a name, or None."""
+    for at, writer in enumerate(rollout.writers):
+        if writer.name == name:
+            return at
+    return None
+
+
+def check_rollout(value):
+    """Raise the error that is stated for what is no Rollout."""
+    if not isinstance(value, Rollout):
+        raise NoRollout("rollout", -1)
+
+
 def options_where(rollout, taken):
     """The options of a rollout that are there already, or those that can be taken, in their order."""
     return [option for option, is_there in all_options(rollout) if is_there == taken]

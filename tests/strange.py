@@ -2,6 +2,7 @@
 
 from fillbehind.errors import NoRow
 from fillbehind.rollouts import Fill, Phase, Rollout, Writer
+from fillbehind.runs import Run
 from fillbehind.statements import Affine
 
 DEPTH = 900
@@ -26,6 +27,7 @@ def package_objects():
         Fill(("put", "copy", ("same old",))),
         Phase("p"),
         small_rollout(),
+        Run(small_rollout(), {1: 2}),
         NoRow("row"),
     ]
 

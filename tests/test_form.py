@@ -98,3 +98,45 @@ class TestForm(unittest.TestCase):
             if isinstance(node, ast.Attribute) and isinstance(node.ctx, ast.Store):
                 attributes.add(node.attr)
         self.assertEqual(methods & attributes, set())
+
+    def test_no_call_by_the_name_of_an_attribute(self):
+        attributes, calls = set(), []
+        for where, node in self.each_node():
+            if isinstance(node, ast.Attribute) and isinstance(node.ctx, ast.Store):
+                attributes.add(node.attr)
+            if isinstance(node, ast.Call) and isinstance(node.func, ast.Attribute):
+                calls.append((where, node.func.attr))
+        self.assertIn("index", attributes)
+        self.assertEqual([(where, name) for where, name in calls if name in attributes], [])
+
+    def test_no_variable_has_the_name_of_a_class_an_import_or_a_function(self):
+        for path in FILES:
+            tree = ast.parse(path.read_text(encoding="utf-8"))
+            top = {row.name for row in tree.body if isinstance(row, (ast.FunctionDef, ast.ClassDef))}
+            top |= {each.name for row in tree.body if isinstance(row, ast.ImportFrom) for each in row.names}
+            for node in ast.walk(tree):
+                if isinstance(node, ast.Name) and isinstance(node.ctx, ast.Store):
+                    self.assertNotIn(node.id, top, f"{path.name}:{node.lineno}")
+                if isinstance(node, ast.arg):
+                    self.assertNotIn(node.arg, top, f"{path.name}:{node.lineno}")
+
+    def test_generators(self):
+        names = set()
+        for where, node in self.each_node():
+            if isinstance(node, (ast.Try, ast.With)):
+                inside = [each for each in ast.walk(node) if isinstance(each, (ast.Yield, ast.YieldFrom))]
+                self.assertEqual(inside, [], where)
+            if isinstance(node, ast.FunctionDef) and any(isinstance(each, ast.Yield) for each in ast.walk(node)):
+                names.add(node.name)
+        self.assertEqual(names, {"play", "walk"})
+
+    def test_files_do_not_import_each_other(self):
+        reached = {}
+        for path in FILES:
+            rows = ast.parse(path.read_text(encoding="utf-8")).body
+            reached[path.stem] = {row.module.split(".")[1] for row in rows if isinstance(row, ast.ImportFrom)}
+        for _ in FILES:
+            for name, others in reached.items():
+                reached[name] = others.union(*[reached[other] for other in others])
+        for name, others in reached.items():
+            self.assertNotIn(name, others)

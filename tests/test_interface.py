@@ -3,7 +3,7 @@
 import inspect
 import unittest
 
-from fillbehind import rollouts, statements
+from fillbehind import judging, rollouts, runs, seen, statements, states
 
 SIGNATURES = {
     (statements, "is_statement"): "(value)",
@@ -16,6 +16,24 @@ SIGNATURES = {
     (rollouts, "Fill"): "(statement, *, batch=1, save='last', lock=False, only_missing=False, falls=False, again=False)",
     (rollouts, "Phase"): "(name, *, writers=(), fills=False, promises=(), waits=())",
     (rollouts, "Rollout"): "(writers, fill, phases, *, workers=1, hands=1, back=())",
+    (runs, "Run"): "(rollout, rows)",
+    (states, "is_state"): "(rollout, state)",
+    (states, "symbols"): "(state)",
+    (states, "starts"): "(rollout)",
+    (states, "after"): "(rollout, state, deed)",
+    (states, "moves"): "(rollout, state)",
+    (states, "walk"): "(rollout, history)",
+    (seen, "seen_at"): "(run, key)",
+    (seen, "values_at"): "(run, key)",
+    (judging, "breaks"): "(rollout, state)",
+    (judging, "reached"): "(rollout, *, most=2000)",
+    (judging, "judge"): "(rollout, *, most=2000)",
+    (judging, "check_table"): "(rollout, table)",
+    (judging, "check_history"): "(rollout, history)",
+}
+METHODS = {
+    "present": "(self)", "do": "(self, deed)", "calls": "(self)", "worker": "(self, index)", "last": "(self, key)",
+    "count": "(self, key)", "broken": "(self)", "play": "(self, deeds)",
 }
 
 
@@ -33,3 +51,12 @@ class TestInterface(unittest.TestCase):
             self.assertIn(name, vars(rollouts.Rollout))
         for found in (statements.Affine, rollouts.Writer, rollouts.Fill, rollouts.Phase):
             self.assertIn("__eq__", vars(found))
+
+    def test_methods_of_a_run(self):
+        for name, told in METHODS.items():
+            self.assertEqual(str(inspect.signature(vars(runs.Run)[name])), told, name)
+        for name in ("__getitem__", "__contains__", "__len__"):
+            self.assertIn(name, vars(runs.Run))
+        self.assertIsInstance(vars(runs.Run)["phase"], property)
+        self.assertTrue(inspect.isgeneratorfunction(runs.Run.play))
+        self.assertTrue(inspect.isgeneratorfunction(states.walk))
