@@ -284,7 +284,12 @@ def with_option(rollout, option):
         fill = stricter_fill(fill, option[1])
     else:
         phases = [stricter_phase(phase, option) for phase in phases]
-    return Rollout(writers, fill, phases, workers=rollout.workers, hands=rollout.hands, back=rollout.back)
+    return rebuilt(rollout, writers, fill, phases, rollout.back)
+
+
+def rebuilt(rollout, writers, fill, phases, back):
+    """The rollout with these parts, and as many workers and hands as it has."""
+    return Rollout(writers, fill, phases, workers=rollout.workers, hands=rollout.hands, back=back)
 
 
 def stricter_writer(writer, option):

@@ -27,6 +27,14 @@ def one(*steps, fill=COPY, promises=(), hands=1, workers=1, name="w", writers=()
     return Rollout(writers, Fill(fill, **more), [phase], hands=hands, workers=workers)
 
 
+def wide(many, promises=("mild",)):
+    """A rollout with some hundreds of states or more, that holds."""
+    writers = [Writer("a", BOTH), Writer("b", READ, ("set", "read", "now", ())), Writer("c", ("insert", "now"))]
+    phases = [Phase(name, writers=("a", "b", "c"), fills=True, promises=promises) for name in ("one", "two", "three", "four")]
+    back = [(at, 0) for at in range(1, many)]
+    return Rollout(writers, Fill(NOW, falls=True, again=True), phases[:many], back=back, workers=2)
+
+
 def statement(chance, reads):
     """A statement; one that needs a read only if there is one ahead."""
     checks = chance.choice(CHECKS) if reads else chance.choice([(), (), ("missing",)])

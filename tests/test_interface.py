@@ -3,7 +3,7 @@
 import inspect
 import unittest
 
-from fillbehind import judging, rollouts, runs, seen, statements, states
+from fillbehind import counts, ends, judging, laying, rollouts, runs, seen, sights, statements, states
 
 SIGNATURES = {
     (statements, "is_statement"): "(value)",
@@ -30,6 +30,14 @@ SIGNATURES = {
     (judging, "judge"): "(rollout, *, most=2000)",
     (judging, "check_table"): "(rollout, table)",
     (judging, "check_history"): "(rollout, history)",
+    (laying, "laid"): "(rollout, history, *, key=0, first=0)",
+    (sights, "sights"): "(rollout, *, most=2000)",
+    (sights, "sight"): "(rollout, phase, word, *, most=2000)",
+    (counts, "does_fill"): "(rollout, state, deed)",
+    (counts, "most_fills"): "(rollout, *, most=2000)",
+    (counts, "check_fills"): "(rollout, answer)",
+    (ends, "always_ends"): "(rollout, *, most=2000)",
+    (ends, "check_ends"): "(rollout, answer)",
 }
 METHODS = {
     "present": "(self)", "do": "(self, deed)", "calls": "(self)", "worker": "(self, index)", "last": "(self, key)",

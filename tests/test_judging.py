@@ -10,25 +10,11 @@ from fillbehind.rollouts import Fill, Phase, Rollout, Writer
 from fillbehind.runs import Run
 from fillbehind.states import moves, starts, walk
 from tests import strange
-from tests.rolls import BOTH, COPY, KEEP, NOW, PROMISES, READ, TAKE, example, one, rollout as made
+from tests.cases import SMALL, Case, levels
+from tests.rolls import BOTH, COPY, KEEP, NOW, PROMISES, READ, TAKE, example, one, rollout as made, wide
 
 AHEAD = ("ahead", None)
 R = (0, None)
-
-
-def levels(rollout):
-    """How many deeds each state that can be reached is away from the starts, told by the moves alone."""
-    found = {state: 0 for state in starts(rollout)}
-    edge = list(found)
-    while edge:
-        following = []
-        for state in edge:
-            for _, behind in moves(rollout, state):
-                if behind not in found:
-                    found[behind] = found[state] + 1
-                    following.append(behind)
-        edge = following
-    return found
 
 
 def model(promises, row, last, count):
@@ -44,29 +30,6 @@ def model(promises, row, last, count):
         if word == "once" and count == 2:
             found.append(word)
     return tuple(found)
-
-
-def wide(many, promises=("mild",)):
-    """A rollout with some hundreds of states or more, that holds."""
-    writers = [Writer("a", BOTH), Writer("b", READ, ("set", "read", "now", ())), Writer("c", ("insert", "now"))]
-    phases = [Phase(name, writers=("a", "b", "c"), fills=True, promises=promises) for name in ("one", "two", "three", "four")]
-    back = [(at, 0) for at in range(1, many)]
-    return Rollout(writers, Fill(NOW, falls=True, again=True), phases[:many], back=back, workers=2)
-
-
-SMALL = [seed for seed in range(60) if len(levels(made(seed, small=True))) <= 300]
-
-
-class Case(unittest.TestCase):
-    def fails(self, error, fields, call, *given, **named):
-        with self.assertRaises(error) as caught:
-            call(*given, **named)
-        self.assertIs(type(caught.exception), error)
-        found = vars(caught.exception)
-        self.assertEqual(set(found), set(fields))
-        for field, value in fields.items():
-            self.assertIs(type(found[field]), type(value))
-            self.assertEqual(found[field], value)
 
 
 class TestBreaks(Case):

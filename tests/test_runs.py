@@ -5,26 +5,13 @@ import unittest
 from fillbehind.errors import NoDeed, NoDeeds, NoKey, NoNumber, NoRun, NotNow
 from fillbehind.rollouts import Fill, Phase, Rollout, Writer
 from fillbehind.runs import Run
-from tests import strange
+from tests import cases, strange
 from tests.rolls import BOTH, COPY, KEEP, NOW, READ, TAKE, example, one
 
 NO_INTEGERS = strange.without(int)
 
 
-class Case(unittest.TestCase):
-    def fails(self, error, fields, call, *given, **named):
-        with self.assertRaises(error) as caught:
-            call(*given, **named)
-        self.assertIs(type(caught.exception), error)
-        found = vars(caught.exception)
-        self.assertEqual(set(found), set(fields))
-        for field, value in fields.items():
-            if type(value) in (str, int):
-                self.assertIs(type(found[field]), type(value))
-                self.assertEqual(found[field], value)
-            else:
-                self.assertIs(found[field], value)
-
+class Case(cases.Case):
     def told(self, run):
         """All that a run tells."""
         rows = {key: run[key] for key in run.present()}

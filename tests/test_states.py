@@ -6,7 +6,7 @@ import unittest
 from fillbehind.errors import NoHistory, NoMove, NoRollout, NoState
 from fillbehind.rollouts import Fill, Phase, Rollout, Writer
 from fillbehind.states import after, is_state, moves, starts, symbols, walk
-from tests import strange
+from tests import cases, strange
 from tests.rolls import COPY, KEEP, NOW, READ, TAKE, example, one, rollout as made
 
 AHEAD = ("ahead", None)
@@ -20,20 +20,7 @@ def full(**more):
     return Rollout(writers, Fill(COPY, **{"save": "first", **more}), phases, workers=2, hands=2)
 
 
-class Case(unittest.TestCase):
-    def fails(self, error, fields, call, *given, **named):
-        with self.assertRaises(error) as caught:
-            call(*given, **named)
-        self.assertIs(type(caught.exception), error)
-        found = vars(caught.exception)
-        self.assertEqual(set(found), set(fields))
-        for field, value in fields.items():
-            if type(value) in (str, int):
-                self.assertIs(type(found[field]), type(value))
-                self.assertEqual(found[field], value)
-            else:
-                self.assertIs(found[field], value)
-
+class Case(cases.Case):
     def deeds(self, rollout, state):
         found = moves(rollout, state)
         self.assertIs(type(found), list)
