@@ -1,5 +1,6 @@
 """Values of every kind that a caller may pass, for the tests."""
 
+from fillbehind.desks import Desk
 from fillbehind.errors import NoRow
 from fillbehind.rollouts import Fill, Phase, Rollout, Writer
 from fillbehind.runs import Run
@@ -28,6 +29,7 @@ def package_objects():
         Phase("p"),
         small_rollout(),
         Run(small_rollout(), {1: 2}),
+        Desk(small_rollout()),
         NoRow("row"),
     ]
 

@@ -3,7 +3,8 @@
 import inspect
 import unittest
 
-from fillbehind import counts, ends, judging, laying, rollouts, runs, seen, sights, statements, states
+from fillbehind import (
+    counts, desks, ends, errors, judging, laying, repairs, rollouts, runs, seen, sights, statements, states, texts, ways)
 
 SIGNATURES = {
     (statements, "is_statement"): "(value)",
@@ -38,6 +39,16 @@ SIGNATURES = {
     (counts, "check_fills"): "(rollout, answer)",
     (ends, "always_ends"): "(rollout, *, most=2000)",
     (ends, "check_ends"): "(rollout, answer)",
+    (repairs, "options"): "(rollout)",
+    (repairs, "verdicts"): "(rollout, some, *, most=2000)",
+    (repairs, "least_repairs"): "(rollout, some, *, most=2000)",
+    (ways, "without"): "(rollout, phase)",
+    (ways, "with_way"): "(rollout, phase, earlier)",
+    (ways, "spare_phases"): "(rollout, *, most=2000)",
+    (ways, "ways_back"): "(rollout, *, most=2000)",
+    (texts, "show_rollout"): "(rollout)",
+    (texts, "read_rollout"): "(text)",
+    (desks, "Desk"): "(rollout)",
 }
 METHODS = {
     "present": "(self)", "do": "(self, deed)", "calls": "(self)", "worker": "(self, index)", "last": "(self, key)",
@@ -68,3 +79,21 @@ class TestInterface(unittest.TestCase):
         self.assertIsInstance(vars(runs.Run)["phase"], property)
         self.assertTrue(inspect.isgeneratorfunction(runs.Run.play))
         self.assertTrue(inspect.isgeneratorfunction(states.walk))
+
+    def test_methods_of_a_desk(self):
+        for name in ("told", "take", "leave_out", "add_way", "put_fill", "put_writer", "put_phase", "undo", "redo", "verdict", "__len__"):
+            self.assertIn(name, vars(desks.Desk))
+
+    def test_errors(self):
+        fields = {
+            "NoStatement": (), "NoRow": ("part",), "NoNumber": ("part",), "NoWriter": ("part", "index"), "NoFill": ("part",),
+            "NoPhase": ("part",), "NoRollout": ("part", "index"), "NoRun": ("part",), "NoKey": ("key",), "NoDeed": ("deed",),
+            "NotNow": ("word",), "NoDeeds": ("index",), "NoState": (), "NoMove": ("deed",), "NoHistory": ("index",),
+            "NoTable": ("index",), "TooMany": ("most",), "NoWord": ("word",), "NoAnswer": ("part", "index"), "NoOption": ("option",),
+            "NoOptions": ("index",), "NoText": ("line",), "NoChange": ("word",),
+        }
+        self.assertEqual({name for name in vars(errors) if name[0].isupper()}, {"FillError", *fields})
+        for name, told in fields.items():
+            self.assertEqual(tuple(inspect.signature(getattr(errors, name)).parameters), told)
+            self.assertEqual(getattr(errors, name).__bases__, (errors.FillError,))
+        self.assertEqual(errors.FillError.__bases__, (ValueError,))
