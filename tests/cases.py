@@ -1,9 +1,11 @@
 """What tests of several files have in common."""
 
+import random
 import unittest
 
+from fillbehind.errors import NoAnswer
 from fillbehind.rollouts import Rollout
-from fillbehind.states import moves, starts
+from fillbehind.states import is_state, moves, starts
 from tests import strange
 from tests.rolls import rollout as made
 
@@ -51,3 +53,39 @@ def levels(rollout):
 
 # Seeds of rollouts with few states, so that a test can go through these many times.
 SMALL = [seed for seed in range(60) if len(levels(made(seed, small=True))) <= 300]
+
+
+def wrong_items(rollout, marks):
+    """The first thing that [41] and [44] find in the items of marks alone, None if there is none."""
+    if type(marks) not in (list, tuple):
+        return ("marks", -1)
+    known = {}
+    for at, item in enumerate(marks):
+        if type(item) is not tuple or len(item) != 2 or not is_state(rollout, item[0]):
+            return ("marks", at)
+        if type(item[1]) is not int or item[1] < 0 or known.setdefault(item[0], item[1]) != item[1]:
+            return ("marks", at)
+    return None
+
+
+class AnswerCase(Case):
+    """Tests of answers that a function of the package tells, that another one checks, and that a model checks, too."""
+
+    def agrees(self, check, model, rollout, answer):
+        """The check tells of an answer what the model tells; whether it is refused."""
+        part = model(rollout, answer)
+        if part is None:
+            self.assertIs(check(rollout, answer), None)
+            return False
+        self.fails(NoAnswer, dict(zip(("part", "index"), part)), check, rollout, answer)
+        return True
+
+    def all_agree(self, tell, check, model, bend):
+        """So it is with answers that are bent in one place, and with those for another rollout."""
+        refused = 0
+        for seed, other in zip(SMALL, SMALL[1:]):
+            rollout, other = made(seed, small=True), made(other, small=True)
+            chance, answer = random.Random(seed), tell(rollout)
+            refused += sum(self.agrees(check, model, rollout, bend(chance, answer)) for _ in range(25))
+            self.agrees(check, model, rollout, tell(other))
+        self.assertGreater(refused, 500)

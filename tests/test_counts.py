@@ -1,15 +1,14 @@
 """Points 40 and 41: how often a row is filled."""
 
-import random
 import time
 
 from fillbehind.counts import check_fills, does_fill, most_fills
 from fillbehind.errors import NoAnswer, NoHistory, NoMove, NoNumber, NoRollout, NoState, TooMany
 from fillbehind.rollouts import Fill, Phase, Rollout, Writer
 from fillbehind.statements import applied
-from fillbehind.states import is_state, moves, starts, walk
+from fillbehind.states import moves, starts, walk
 from tests import strange
-from tests.cases import SMALL, Case, levels, no_integers, no_rollouts
+from tests.cases import SMALL, AnswerCase, Case, levels, no_integers, no_rollouts, wrong_items
 from tests.rolls import BOTH, KEEP, NOW, TAKE, example, one, rollout as made, wide
 
 AHEAD = ("ahead", None)
@@ -69,14 +68,9 @@ def wrong_round(rollout, begin, deeds):
 
 
 def wrong_marks(rollout, number, marks):
-    if type(marks) not in (list, tuple):
-        return ("marks", -1)
-    known = {}
-    for at, item in enumerate(marks):
-        if type(item) is not tuple or len(item) != 2 or not is_state(rollout, item[0]):
-            return ("marks", at)
-        if type(item[1]) is not int or item[1] < 0 or known.setdefault(item[0], item[1]) != item[1]:
-            return ("marks", at)
+    if wrong_items(rollout, marks) is not None:
+        return wrong_items(rollout, marks)
+    known = dict(marks)
     if any(known.get(start, number + 1) > number for start in starts(rollout)):
         return ("marks", len(marks))
     for at, (state, mark) in enumerate(marks):
@@ -249,7 +243,7 @@ class TestMostFills(Case):
                     self.fails(TooMany, {"most": most}, most_fills, rollout, most=most)
 
 
-class TestCheckFills(Case):
+class TestCheckFills(AnswerCase):
     def setUp(self):
         self.rollout = one(BOTH, fill=NOW)
         self.most = most_fills(self.rollout)
@@ -395,31 +389,8 @@ class TestCheckFills(Case):
         turn = [("read", 0), ("set", 0), ("save", 0), ("end", 0), ("again", 0)]
         self.assertIs(check_fills(self.endless_one, (word, (1, turn), turn)), None)
 
-    def test_answers_bent_in_one_place(self):
-        bent = 0
-        for seed in SMALL:
-            rollout = made(seed, small=True)
-            chance = random.Random(seed)
-            told = most_fills(rollout)
-            for _ in range(25):
-                answer = bend(chance, told)
-                part = wrong_part(rollout, answer)
-                if part is None:
-                    self.assertIs(check_fills(rollout, answer), None)
-                else:
-                    bent += 1
-                    self.wrong(*part, answer, rollout)
-        self.assertGreater(bent, 500)
-
-    def test_answers_for_another_rollout(self):
-        for seed, other in zip(SMALL, SMALL[1:]):
-            rollout, other = made(seed, small=True), made(other, small=True)
-            answer = most_fills(other)
-            part = wrong_part(rollout, answer)
-            if part is None:
-                self.assertIs(check_fills(rollout, answer), None)
-            else:
-                self.wrong(*part, answer, rollout)
+    def test_answers_bent_in_one_place_or_for_another_rollout(self):
+        self.all_agree(most_fills, check_fills, wrong_part, bend)
 
     def test_no_rollout(self):
         for value in no_rollouts():

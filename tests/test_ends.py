@@ -1,6 +1,5 @@
 """Points 43 and 44: whether the end can always be reached."""
 
-import random
 import time
 
 from fillbehind.ends import always_ends, check_ends
@@ -8,7 +7,7 @@ from fillbehind.errors import NoAnswer, NoHistory, NoNumber, NoRollout, TooMany
 from fillbehind.rollouts import Fill, Phase, Rollout, Writer
 from fillbehind.states import is_state, moves, starts, walk
 from tests import strange
-from tests.cases import SMALL, Case, levels, no_integers, no_rollouts
+from tests.cases import SMALL, AnswerCase, Case, levels, no_integers, no_rollouts, wrong_items
 from tests.rolls import BOTH, NOW, READ, example, one, rollout as made, wide
 
 AHEAD, DONE = ("ahead", None), ("done", None)
@@ -43,14 +42,9 @@ def wrong_part(rollout, answer):
 
 
 def wrong_marks(rollout, marks):
-    if type(marks) not in (list, tuple):
-        return ("marks", -1)
-    known = {}
-    for at, item in enumerate(marks):
-        if type(item) is not tuple or len(item) != 2 or not is_state(rollout, item[0]):
-            return ("marks", at)
-        if type(item[1]) is not int or item[1] < 0 or known.setdefault(item[0], item[1]) != item[1]:
-            return ("marks", at)
+    if wrong_items(rollout, marks) is not None:
+        return wrong_items(rollout, marks)
+    known = dict(marks)
     if any(start not in known for start in starts(rollout)):
         return ("marks", len(marks))
     for at, (state, mark) in enumerate(marks):
@@ -213,7 +207,7 @@ class TestAlwaysEnds(Case):
                    most=3)
 
 
-class TestCheckEnds(Case):
+class TestCheckEnds(AnswerCase):
     def setUp(self):
         self.rollout = one(BOTH, fill=NOW)
         self.marks = always_ends(self.rollout)[1]
@@ -345,31 +339,8 @@ class TestCheckEnds(Case):
         begin = starts(self.stuck_one)[1]
         self.wrong("states", 1, (word, history, [last, begin, begin]), self.stuck_one)
 
-    def test_answers_bent_in_one_place(self):
-        bent = 0
-        for seed in SMALL:
-            rollout = made(seed, small=True)
-            chance = random.Random(seed)
-            told = always_ends(rollout)
-            for _ in range(25):
-                answer = bend(chance, told)
-                part = wrong_part(rollout, answer)
-                if part is None:
-                    self.assertIs(check_ends(rollout, answer), None)
-                else:
-                    bent += 1
-                    self.wrong(*part, answer, rollout)
-        self.assertGreater(bent, 500)
-
-    def test_answers_for_another_rollout(self):
-        for seed, other in zip(SMALL, SMALL[1:]):
-            rollout, other = made(seed, small=True), made(other, small=True)
-            answer = always_ends(other)
-            part = wrong_part(rollout, answer)
-            if part is None:
-                self.assertIs(check_ends(rollout, answer), None)
-            else:
-                self.wrong(*part, answer, rollout)
+    def test_answers_bent_in_one_place_or_for_another_rollout(self):
+        self.all_agree(always_ends, check_ends, wrong_part, bend)
 
     def test_no_rollout(self):
         for value in no_rollouts():

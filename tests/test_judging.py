@@ -2,7 +2,6 @@
 
 import random
 import time
-import unittest
 
 from fillbehind.errors import NoHistory, NoNumber, NoRollout, NoState, NoTable, NotNow, TooMany
 from fillbehind.judging import breaks, check_history, check_table, judge, reached

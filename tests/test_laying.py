@@ -13,7 +13,7 @@ from fillbehind.seen import seen_at, values_at
 from fillbehind.states import moves, starts, walk
 from tests import strange
 from tests.cases import SMALL, Case, no_integers, no_rollouts
-from tests.rolls import BOTH, COPY, KEEP, NOW, READ, TAKE, example, one, rollout as made, wide
+from tests.rolls import BOTH, KEEP, NOW, READ, TAKE, example, one, rollout as made, wide
 
 DEEDS = [("read", 0), ("call", "old", 1), ("set", 0)]
 

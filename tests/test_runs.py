@@ -1,7 +1,5 @@
 """Points 14 to 16 and 20 to 23: runs on tables."""
 
-import unittest
-
 from fillbehind.errors import NoDeed, NoDeeds, NoKey, NoNumber, NoRun, NotNow
 from fillbehind.rollouts import Fill, Phase, Rollout, Writer
 from fillbehind.runs import Run

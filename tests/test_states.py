@@ -1,7 +1,6 @@
 """Points 25 to 28: the states of one row, their moves, and histories."""
 
 import inspect
-import unittest
 
 from fillbehind.errors import NoHistory, NoMove, NoRollout, NoState
 from fillbehind.rollouts import Fill, Phase, Rollout, Writer
