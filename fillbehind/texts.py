@@ -141,9 +141,10 @@ def step_of(text):
 def read_writer(line, known):
     """The Writer of a line, or None."""
     head, colon, rest = line.partition(": ")
+    name = head.partition(" ")[2]
     steps = [step_of(text) for text in rest.split("; ")]
     try:
-        writer = Writer(head.partition(" ")[2], *steps)
+        writer = Writer(name, *steps)
     except NoWriter:
         return None
     return writer if wrong_writer(known["writer"] + [writer]) is None else None

@@ -367,6 +367,15 @@ class TestRead(Case):
             read += type(model("".join(pieces))) is Rollout
         self.assertGreater(read, 100)
 
+    def test_all_pairs_of_back(self):
+        phases = [Phase(name) for name in ("one", "two", "three", "four", "five", "six")]
+        pairs = [(late, early) for early in range(6) for late in range(early + 1, 6)]
+        rollout = Rollout([Writer("w", KEEP)], Fill(COPY), phases, back=pairs)
+        text = show_rollout(rollout)
+        self.assertEqual(text.split("\n")[10:], [*[f"back {late} {early}" for late, early in pairs], ""])
+        self.assertEqual(read_rollout(text), rollout)
+        self.wrong(25, text + "back 1 0\n")
+
     def test_long_texts(self):
         ahead = time.monotonic()
         self.wrong(2, "hands 1\nworkers 1\n" + "writer " + "a" * 10 ** 6 + ": delete\n")
